@@ -1,0 +1,1 @@
+"""Formsalike: nested values in five published forms."""
