@@ -4,17 +4,31 @@ import importlib
 import inspect
 import unittest
 
+from formsalike.base64 import Base64
+from formsalike.events import Builder
+from formsalike.utf8 import Utf8
+
 FUNCTIONS = {
     "decimals": {"normal": "(m, e)", "from_binary": "(m, two)", "whole": "(m, e, most)", "layout": "(m, e)"},
     "floats": {"half": "(bits)", "single": "(bits)", "double": "(bits)"},
     "values": {"number": "(m, e=0)", "text": "(string)", "list_of": "(items)", "map_of": "(entries)",
                "walk": "(value)", "depth": "(value)"},
     "checks": {"is_value": "(thing)"},
+    "utf8": {"encode": "(points)", "decode": "(octets)"},
+    "base64": {"encode64": "(octets)"},
+    "orders": {"units": "(points)", "by_units": "(entries)", "by_points": "(entries)"},
+    "events": {"events_of": "(value)"},
 }
 
 CLASSES = {
     "errors": {"AlikeError": {"__init__": "(self, what=None)"}, "Unreadable": {}, "Unwritable": {}, "Doubled": {}},
+    "utf8": {"Utf8": {"take": "(self, octet)"}},
+    "base64": {"Base64": {"take": "(self, octet)"}},
+    "events": {"Builder": {"take": "(self, event)"}},
+    "jsontext.scan": {"JsonScanner": {"step": "(self, octet)", "end": "(self)"}},
 }
+
+PROPERTIES = [(Utf8, "is_open"), (Base64, "is_whole")]
 
 
 def module_of(name):
@@ -41,6 +55,17 @@ class InterfaceTest(unittest.TestCase):
                     self.assertEqual(str(inspect.signature(vars(made)[method])), signature, word)
                 if name != "errors":
                     self.assertEqual(str(inspect.signature(made)), "()")
+
+    def test_properties(self):
+        for made, word in PROPERTIES:
+            self.assertIsInstance(vars(made)[word], property)
+            self.assertIsInstance(getattr(made(), word), bool)
+
+    def test_attributes_of_new_objects(self):
+        self.assertEqual(Utf8().points, [])
+        self.assertEqual(Base64().octets, [])
+        self.assertIs(Builder().is_done, False)
+        self.assertIsNone(Builder().value)
 
     def test_walk_is_a_generator(self):
         self.assertTrue(inspect.isgeneratorfunction(module_of("values").walk))

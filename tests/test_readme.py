@@ -9,7 +9,7 @@ class ReadmeTest(unittest.TestCase):
     def test_examples(self):
         failed, tried = doctest.testfile(str(README), module_relative=False)
         self.assertEqual(failed, 0)
-        self.assertGreater(tried, 4)
+        self.assertGreater(tried, 5)
 
 
 if __name__ == "__main__":
