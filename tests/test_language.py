@@ -31,7 +31,7 @@ BARRED_NAMES = set("""register mro elements open input law version_info with_tra
 BARRED_WORDS = set("""type typing typing_extensions enum Enum IntEnum StrEnum Flag IntFlag Generic Protocol ABC ABCMeta
     namedtuple NamedTuple TypedDict TYPE_CHECKING abstractmethod""".split())
 
-PLAIN_NODES = (ast.Constant, ast.Tuple, ast.List, ast.Dict, ast.Name, ast.UnaryOp, ast.BinOp, ast.operator,
+PLAIN_NODES = (ast.Constant, ast.Tuple, ast.List, ast.Dict, ast.UnaryOp, ast.BinOp, ast.operator,
                ast.unaryop, ast.expr_context)
 
 AT_ONCE = ("zip", "enumerate", "reversed", "range", "items", "keys", "values")
