@@ -1,8 +1,9 @@
-"""What the tests of all scanners have in common."""
+"""What the tests of all scanners and readers have in common."""
 
 import random
 import unittest
 
+from formsalike.checks import is_value
 from formsalike.errors import AlikeError, Unreadable
 from formsalike.events import Builder
 from tests import samples
@@ -42,15 +43,33 @@ def built(found):
 
 
 class ScanTest(unittest.TestCase):
-    """The tests of a scanner; each text is given to an oracle, too, which must tell the same events and place."""
+    """The tests of a scanner and of the reader of its form.
+
+    Each text is given to an oracle, too, which must tell the same events and place, and to the reader, which must
+    give the value that the events build, or refuse the same place.
+    """
 
     scanner_class = None
+    reader = None
     oracle = None
 
     def scan(self, octets):
         result = scan(self.scanner_class(), octets)
         self.assertEqual(result, self.oracle.scan(octets), octets)
+        self.check_reader(octets, *result)
         return result
+
+    def check_reader(self, octets, found, place):
+        row = list(octets)
+        if place is None:
+            value = self.reader(row)
+            self.assertEqual(value, built(found), octets)
+            self.assertTrue(is_value(value), octets)
+        else:
+            with self.assertRaises(Unreadable) as caught:
+                self.reader(row)
+            self.assertEqual(caught.exception.what, place, octets)
+        self.assertEqual(row, list(octets))
 
     def value_of(self, octets):
         found, place = self.scan(octets)

@@ -1,5 +1,6 @@
 import unittest
 
+from formsalike.bencoded.read import read_bencode
 from formsalike.bencoded.scan import BencodeScanner
 from tests import bencodeoracle, scanning
 from tests.scanning import CLOSE, LIST, MAP, key, leaf
@@ -18,6 +19,7 @@ def octets_of(octets):
 
 class BencodeScanTest(scanning.ScanTest):
     scanner_class = BencodeScanner
+    reader = staticmethod(read_bencode)
     oracle = bencodeoracle
 
 

@@ -1,5 +1,6 @@
 import unittest
 
+from formsalike.bertree.read import read_ber
 from formsalike.bertree.scan import BerScanner
 from tests import beroracle, scanning
 from tests.scanning import CLOSE, LIST, MAP, key, leaf
@@ -45,6 +46,7 @@ def endless(tag, contents):
 
 class BerScanTest(scanning.ScanTest):
     scanner_class = BerScanner
+    reader = staticmethod(read_ber)
     oracle = beroracle
 
     def check_leaf(self, octets, *value):

@@ -2,6 +2,7 @@ import struct
 import unittest
 from fractions import Fraction
 
+from formsalike.cbortree.read import read_cbor
 from formsalike.cbortree.scan import CborScanner
 from tests import cbororacle, scanning
 from tests.scanning import CLOSE, LIST, MAP, key, leaf
@@ -41,6 +42,7 @@ def heads(major, argument):
 
 class CborScanTest(scanning.ScanTest):
     scanner_class = CborScanner
+    reader = staticmethod(read_cbor)
     oracle = cbororacle
 
     def check_leaf(self, octets, *value):

@@ -18,6 +18,11 @@ FUNCTIONS = {
     "base64": {"encode64": "(octets)"},
     "orders": {"units": "(points)", "by_units": "(entries)", "by_points": "(entries)"},
     "events": {"events_of": "(value)"},
+    "jsontext.read": {"read_json": "(octets)"},
+    "cbortree.read": {"read_cbor": "(octets)"},
+    "bertree.read": {"read_ber": "(octets)"},
+    "bencoded.read": {"read_bencode": "(octets)"},
+    "sexprs.read": {"read_sexp": "(octets)"},
     "cbortree.write": {"write_cbor": "(value)", "cbor_lacks": "(value)"},
     "bencoded.write": {"write_bencode": "(value)", "bencode_lacks": "(value)"},
 }

@@ -1,6 +1,7 @@
 import random
 import unittest
 
+from formsalike.jsontext.read import read_json
 from formsalike.jsontext.scan import JsonScanner
 from tests import jsonoracle, samples, scanning
 from tests.scanning import CLOSE
@@ -10,6 +11,7 @@ NULL = ("leaf", ("null",))
 
 class JsonScanTest(scanning.ScanTest):
     scanner_class = JsonScanner
+    reader = staticmethod(read_json)
     oracle = jsonoracle
 
     def check_number(self, octets, m, e):

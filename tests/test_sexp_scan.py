@@ -1,6 +1,7 @@
 import base64
 import unittest
 
+from formsalike.sexprs.read import read_sexp
 from formsalike.sexprs.scan import SexpScanner
 from tests import scanning, sexporacle
 from tests.scanning import CLOSE, LIST, leaf
@@ -21,6 +22,7 @@ def atom(octets):
 
 class SexpScanTest(scanning.ScanTest):
     scanner_class = SexpScanner
+    reader = staticmethod(read_sexp)
     oracle = sexporacle
 
     def check_atom(self, octets, wanted):
