@@ -2,7 +2,7 @@
 
 from formsalike.bencoded.marks import SMALL_D, SMALL_E, SMALL_I, SMALL_L
 from formsalike.bencoded.tokens import BencodeKey, BencodeNumber
-from formsalike.counted import Counted, is_digit
+from formsalike.counted import Counted
 from formsalike.errors import Unreadable
 from formsalike.nest import Nest
 
@@ -76,9 +76,9 @@ class BencodeScanner:
         return self._begin_counted(Counted(), octet)
 
     def _begin_counted(self, token, octet):
-        """Begin bytes or a key with the first digit of the count."""
+        """Begin bytes or a key with the first digit of the count; no other octet can stand there."""
         self._token = token
-        return is_digit(octet) and token.take(octet)
+        return token.take(octet)
 
     def _grow(self, kind, events):
         """Open a list or map and return True, or return False if too many are open."""

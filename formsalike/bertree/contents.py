@@ -58,16 +58,15 @@ class BerInteger:
     """The octets of an integer in two's complement."""
 
     def __init__(self):
-        self._worth = 0
-        self._taken = 0
+        self._worth = None
 
     def take(self, octet):
         """Take the octet and return True, or return False if the octet before it is not needed."""
-        self._taken = self._taken + 1
-        if self._taken == 1:
+        if self._worth is None:
             self._worth = octet if octet < 128 else octet - 256
             return True
-        if self._taken == 2 and self._worth == (0 if octet < 128 else -1):
+        # Behind a second octet the worth is neither 0 nor -1 any more, so this looks at the first two octets only.
+        if self._worth == (0 if octet < 128 else -1):
             return False
         self._worth = self._worth * 256 + octet
         return True
