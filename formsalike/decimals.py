@@ -53,6 +53,12 @@ def digits_of(n):
     return "".join(reversed(pieces))
 
 
+def signed_digits(n):
+    """The decimal digits of an integer, behind a minus if it is below 0, a string."""
+    sign = "-" if n < 0 else ""
+    return sign + digits_of(abs(n))
+
+
 def layout(m, e):
     """The layout of a number in normal form, a string."""
     if m < 0:

@@ -1,5 +1,7 @@
 """Hexadecimal digits."""
 
+from formsalike.counted import in_ascii
+
 
 def hex_worth(octet):
     """The worth of a hexadecimal digit, small or capital, None if the octet is none."""
@@ -10,3 +12,8 @@ def hex_worth(octet):
     if 97 <= octet <= 102:
         return octet - 87
     return None
+
+
+def hex_digits(octet):
+    """The list of the two digits that write an octet, with small letters."""
+    return in_ascii(f"{octet:02x}")

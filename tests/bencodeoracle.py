@@ -35,7 +35,7 @@ def value(row, levels):
 
 
 def entries(row, levels):
-    keys = []
+    keys = set()
     while row.peek() != ord("e"):
         octet = row.octet()
         if octet not in DIGITS:
@@ -43,7 +43,7 @@ def entries(row, levels):
         key = oracles.text_of(row, count(row, octet))
         if key in keys:
             row.fail()
-        keys.append(key)
+        keys.add(key)
         row.tell(("key", key))
         value(row, levels + 1)
 

@@ -23,8 +23,11 @@ FUNCTIONS = {
     "bertree.read": {"read_ber": "(octets)"},
     "bencoded.read": {"read_bencode": "(octets)"},
     "sexprs.read": {"read_sexp": "(octets)"},
+    "jsontext.write": {"write_json": "(value)", "json_lacks": "(value)"},
     "cbortree.write": {"write_cbor": "(value)", "cbor_lacks": "(value)"},
+    "bertree.write": {"write_ber": "(value)"},
     "bencoded.write": {"write_bencode": "(value)", "bencode_lacks": "(value)"},
+    "sexprs.write": {"write_sexp": "(value)", "sexp_lacks": "(value)"},
 }
 
 CLASSES = {
@@ -37,6 +40,8 @@ CLASSES = {
     "bertree.scan": {"BerScanner": {"step": "(self, octet)", "end": "(self)"}},
     "bencoded.scan": {"BencodeScanner": {"step": "(self, octet)", "end": "(self)"}},
     "sexprs.scan": {"SexpScanner": {"step": "(self, octet)", "end": "(self)"}},
+    "jsontext.loose": {"JsonLoose": {"take": "(self, event)"}},
+    "bencoded.loose": {"BencodeLoose": {"take": "(self, event)"}},
 }
 
 PROPERTIES = [(Utf8, "is_open"), (Base64, "is_whole")]

@@ -3,8 +3,9 @@
 import random
 import unittest
 
-from formsalike.errors import Unwritable
+from formsalike.errors import Unreadable, Unwritable
 from tests import samples
+from tests.writeoracles import ORACLES, first_lacking
 
 
 class WriteTest(unittest.TestCase):
@@ -43,6 +44,34 @@ class WriteTest(unittest.TestCase):
         self.check_lacks(("list", (("map", ((key, ("list", (one, value))),)), value)), 4)
         self.check_lacks(("list", (value, value)), 1)
         self.check_lacks(samples.nested(24, value), 24)
+
+    def check_canonical(self, form, value):
+        """The octets, or the index of the first value that is lacking, are those that an oracle tells."""
+        index = first_lacking(form, value)
+        if index is None:
+            self.check_written(value, ORACLES[form].canonical(value))
+        else:
+            self.check_lacks(value, index)
+
+    def check_random_canonical(self, form, seed, many):
+        """Values at random, of the kinds that the form has and of all kinds, are written as the oracle tells."""
+        for value in samples.random_values(seed, many, form) + samples.random_values(seed + 1, many):
+            self.check_canonical(form, value)
+
+    def check_read_again(self, read, seed, many, form, pool):
+        """What is written of what was read is read as the same value, and written again as it is."""
+        chance = random.Random(seed)
+        for value in samples.random_values(seed, many, form):
+            octets = self.oracle.random_text(value, chance)
+            for text in (octets, samples.spoiled(octets, chance, pool), samples.spoiled(octets, chance, pool)):
+                try:
+                    found = read(list(text))
+                except Unreadable:
+                    continue
+                self.assertTrue(text is not octets or found == value)
+                written = self.write(found)
+                self.assertEqual(read(written), found)
+                self.assertEqual(self.write(read(written)), written)
 
     def check_random_values(self, form, seed, many):
         """Values that the form has are written as texts whose events build them again."""

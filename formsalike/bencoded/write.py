@@ -1,43 +1,26 @@
 """The canonical texts of bencode."""
 
-from formsalike.bencoded.marks import LARGEST_EXPONENT
-from formsalike.counted import in_ascii, with_count
-from formsalike.decimals import digits_of, whole
-from formsalike.errors import Unwritable
-from formsalike.utf8 import encode
-from formsalike.values import walk
+from formsalike.bencoded.leaves import is_lacking, key_octets, leaf_octets
+from formsalike.bencoded.marks import SMALL_D, SMALL_E, SMALL_L
+from formsalike.lacking import check_writable, first_lacking
 
 
 def write_bencode(value):
     """The list of the canonical octets of a value; raises Unwritable."""
-    lacking = bencode_lacks(value)
-    if lacking is not None:
-        raise Unwritable(lacking)
+    check_writable(value, is_lacking)
     return _octets_of(value)
 
 
 def bencode_lacks(value):
     """The index in preorder of the first value that bencode lacks, or None."""
-    for index, found in enumerate(walk(value)):
-        if _is_lacking(found):
-            return index
-    return None
-
-
-def _is_lacking(value):
-    """Whether bencode lacks this value, whatever is in it."""
-    if value[0] == "number":
-        return not 0 <= value[2] <= LARGEST_EXPONENT
-    return value[0] not in ("bytes", "list", "map")
+    return first_lacking(value, is_lacking)
 
 
 def _octets_of(value):
     """The octets of a value that bencode has."""
-    if value[0] == "number":
-        return number_octets(value[1], value[2])
-    if value[0] == "bytes":
-        return with_count(value[1])
-    octets = in_ascii("l" if value[0] == "list" else "d")
+    if value[0] not in ("list", "map"):
+        return leaf_octets(value)
+    octets = [SMALL_L if value[0] == "list" else SMALL_D]
     if value[0] == "list":
         for item in value[1]:
             octets.extend(_octets_of(item))
@@ -46,17 +29,5 @@ def _octets_of(value):
         for key, part in value[1]:
             octets.extend(key_octets(key))
             octets.extend(_octets_of(part))
-    octets.extend(in_ascii("e"))
+    octets.append(SMALL_E)
     return octets
-
-
-def number_octets(m, e):
-    """The octets of a number that bencode has."""
-    integer = whole(m, e, LARGEST_EXPONENT)
-    sign = "-" if integer < 0 else ""
-    return in_ascii("i" + sign + digits_of(abs(integer)) + "e")
-
-
-def key_octets(key):
-    """The octets of a key."""
-    return with_count(encode(key))

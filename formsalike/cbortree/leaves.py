@@ -1,8 +1,8 @@
 """The canonical octets of keys, and of values that are neither lists nor maps, in CBOR."""
 
 from formsalike.cbortree.heads import shortest_head
-from formsalike.cbortree.marks import BYTES, DECIMAL_TAG, FALSE_INFO, LIST, NEGATIVE, NEGATIVE_TAG, NULL_INFO
-from formsalike.cbortree.marks import POSITIVE, POSITIVE_TAG, SIMPLE, TAG, TEXT, TRUE_INFO
+from formsalike.cbortree.marks import BYTES, DECIMAL_TAG, FALSE_INFO, LARGEST_EXPONENT, LIST, NEGATIVE, NEGATIVE_TAG
+from formsalike.cbortree.marks import NULL_INFO, POSITIVE, POSITIVE_TAG, SIMPLE, TAG, TEXT, TRUE_INFO
 from formsalike.decimals import whole
 from formsalike.integers import shortest
 from formsalike.utf8 import encode
@@ -12,8 +12,13 @@ LARGEST_SCALE = 64
 FIRST_LARGE = 2 ** 64
 
 
+def is_lacking(value):
+    """Whether CBOR lacks this value, whatever is in it."""
+    return value[0] == "number" and not -LARGEST_EXPONENT <= value[2] <= LARGEST_EXPONENT
+
+
 def leaf_octets(value):
-    """The list of the octets of a value that is neither a list nor a map."""
+    """The list of the octets of a value that is neither a list nor a map, and that CBOR has."""
     if value[0] == "number":
         return _number_octets(value[1], value[2])
     if value[0] == "bytes":

@@ -1,26 +1,20 @@
 """The canonical texts of CBOR."""
 
 from formsalike.cbortree.heads import shortest_head
-from formsalike.cbortree.leaves import key_octets, leaf_octets
-from formsalike.cbortree.marks import LARGEST_EXPONENT, LIST, MAP
-from formsalike.errors import Unwritable
-from formsalike.values import walk
+from formsalike.cbortree.leaves import is_lacking, key_octets, leaf_octets
+from formsalike.cbortree.marks import LIST, MAP
+from formsalike.lacking import check_writable, first_lacking
 
 
 def write_cbor(value):
     """The list of the canonical octets of a value; raises Unwritable."""
-    lacking = cbor_lacks(value)
-    if lacking is not None:
-        raise Unwritable(lacking)
+    check_writable(value, is_lacking)
     return _octets_of(value)
 
 
 def cbor_lacks(value):
     """The index in preorder of the first value that CBOR lacks, or None."""
-    for index, found in enumerate(walk(value)):
-        if found[0] == "number" and not -LARGEST_EXPONENT <= found[2] <= LARGEST_EXPONENT:
-            return index
-    return None
+    return first_lacking(value, is_lacking)
 
 
 def _octets_of(value):
