@@ -28,6 +28,10 @@ FUNCTIONS = {
     "bertree.write": {"write_ber": "(value)"},
     "bencoded.write": {"write_bencode": "(value)", "bencode_lacks": "(value)"},
     "sexprs.write": {"write_sexp": "(value)", "sexp_lacks": "(value)"},
+    "forms": {"read": "(form, octets)", "write": "(form, value)", "lacks": "(form, value)", "scanner": "(form)",
+              "loose": "(form)", "is_canonical": "(form, octets)"},
+    "streams": {"read_pieces": "(form, pieces)", "carry": "(source, goal, pieces)"},
+    "chains": {"convert": "(source, goal, octets)", "through": "(value, names)"},
 }
 
 CLASSES = {
@@ -41,7 +45,11 @@ CLASSES = {
     "bencoded.scan": {"BencodeScanner": {"step": "(self, octet)", "end": "(self)"}},
     "sexprs.scan": {"SexpScanner": {"step": "(self, octet)", "end": "(self)"}},
     "jsontext.loose": {"JsonLoose": {"take": "(self, event)"}},
+    "cbortree.loose": {"CborLoose": {"take": "(self, event)"}},
+    "bertree.loose": {"BerLoose": {"take": "(self, event)"}},
     "bencoded.loose": {"BencodeLoose": {"take": "(self, event)"}},
+    "sexprs.loose": {"SexpLoose": {"take": "(self, event)"}},
+    "streams": {"Stream": {"feed": "(self, octets)", "finish": "(self)"}},
 }
 
 PROPERTIES = [(Utf8, "is_open"), (Base64, "is_whole")]
@@ -70,7 +78,7 @@ class InterfaceTest(unittest.TestCase):
                     self.assertIn(method, vars(made))
                     self.assertEqual(str(inspect.signature(vars(made)[method])), signature, word)
                 if name != "errors":
-                    self.assertEqual(str(inspect.signature(made)), "()")
+                    self.assertEqual(str(inspect.signature(made)), "(form)" if word == "Stream" else "()")
 
     def test_properties(self):
         for made, word in PROPERTIES:

@@ -27,6 +27,10 @@ WIDTHS = {24: 1, 25: 2, 26: 4, 27: 8}
 INDEFINITE = 31
 BREAK = 255
 
+# The octets that open a list and a map of indefinite length.
+LONG_LIST = 0x9F
+LONG_MAP = 0xBF
+
 # The tags of large integers from 0 on and below 0, and that of decimal numbers.
 POSITIVE_TAG = 2
 NEGATIVE_TAG = 3

@@ -11,6 +11,11 @@ def begins_token(octet):
     return 65 <= octet <= 90 or 97 <= octet <= 122 or octet in TOKEN_MARKS
 
 
+def goes_on_token(octet):
+    """Whether the octet can stand behind the first one of a token."""
+    return begins_token(octet) or is_digit(octet)
+
+
 class SexpToken:
     """An atom as a token, whose first octet is taken first; no octet of its own ends it."""
 
@@ -21,7 +26,7 @@ class SexpToken:
 
     def take(self, octet):
         """Take the octet and return True, or return False if it is none of the token."""
-        if not begins_token(octet) and not is_digit(octet):
+        if not goes_on_token(octet):
             return False
         self._octets.append(octet)
         return True

@@ -1,13 +1,12 @@
 """Quoted atoms of S-expressions that are taken octet by octet."""
 
 from formsalike.hexdigits import hex_worth
-from formsalike.sexprs.marks import BACKSLASH, LINE_FEED, QUOTE
+from formsalike.sexprs.marks import BACKSLASH, FIRST_PLAIN, LAST_PLAIN, LINE_FEED, QUOTE
 
 # The octets that a backslash and one octet mean.
 SHORT_ESCAPES = {98: 8, 116: 9, 118: 11, 110: 10, 102: 12, 114: 13, 34: 34, 39: 39, 92: 92, 63: 63}
 
 SMALL_X = 120
-HIGHEST = 126
 
 
 class SexpEscape:
@@ -73,7 +72,7 @@ class SexpQuoted:
             self._escape = SexpEscape()
             return True
         self._octets.append(octet)
-        return 32 <= octet <= HIGHEST
+        return FIRST_PLAIN <= octet <= LAST_PLAIN
 
     def _take_in_escape(self, octet):
         if not self._escape.take(octet):
